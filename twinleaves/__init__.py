@@ -1,0 +1,1 @@
+"""Memory of tasks in leaves, twins and books: scripts of steps, decided for all values."""
