@@ -305,9 +305,9 @@ def ways_of(frames, brought, take):
         yield frames
 
 
-def marked_number(script, marks):
+def marked_number(script, marks, store=None):
     """The number that [10] tells of marks, word by word."""
-    contents, brings, takes = store_of(script)
+    contents, brings, takes = store or store_of(script)
     table = dict(marks)
     number = sum(1 for c, m in marks if m % 2 == 0 and c in contents[m // 2])
     number -= sum(1 for q, row in brings.items() for c in row if c in table and 2 * q + 2 <= table[c])
@@ -470,3 +470,29 @@ def first_sharing(dice, leaves):
     if dice.random() < 0.5:
         steps += [('task', 'b'), ('map', 'b', 0, leaves, ('apart', 'f', 0), 'rw')]
     return steps
+
+
+def knotted_script(script, seed):
+    """A script (made by script) in which many tasks share leaves that become alike and unlike again."""
+    dice = random.Random(seed)
+    leaves, tasks, most = dice.choice([1, 1, 1, 2]), 'abcdefgh'[:dice.randint(3, 8)], dice.randint(1, 5)
+    steps = [('task', 'a'), ('map', 'a', 0, leaves, ('zero',), 'rw'), ('put', 'a', 0, 0, (('input', 'x', 1),))]
+    if dice.random() < 0.2:
+        way = (dice.choice(['common', 'apart']), 'f', 0)
+        steps = [('file', 'f', 1), ('task', 'a'), ('map', 'a', 0, 1, way, 'rw')]
+    steps += [('fork', 'a', t) for t in tasks[1:] if dice.random() < 0.9]
+    shows, ends, forks, firsts = dice.random() / 2, dice.random() / 10, dice.random() / 6, dice.random() / 2
+    for _ in range(dice.randint(5, 40)):
+        t, leaf, part = dice.choice(tasks), dice.randrange(leaves), dice.random()
+        if part < shows:
+            steps.append(('show', t, leaf, 0))
+        elif part < shows + ends:
+            steps.append(('end', t))
+        elif part < shows + ends + forks:
+            steps.append(('fork', dice.choice(tasks), t))
+        elif dice.random() < firsts:
+            steps.append(('put', t, leaf, 0, dice.choice([(('input', 'x', 1),), (('number', dice.randint(0, 2)),)])))
+        else:
+            steps.append(('put', t, leaf, 1, (('number', dice.randint(0, most)),)))
+    steps += [('show', t, leaf, 0) for t in tasks for leaf in range(leaves) if dice.random() < 0.8]
+    return script(leaves, 2, steps)

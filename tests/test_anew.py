@@ -55,7 +55,9 @@ class AnewTest(unittest.TestCase):
         for text in ('', 'show a 0.0', 'task a', 'task a; end a', 'task a; map a 1 2 zero r; show a 1.0',
                      'task a; map a 0 1 zero rw; put a 0.0 = x - 4; guard a 0 1 r',
                      'file f 3; cut f 1', 'file f 3; cut f 0; cut f 2', 'file f 0; task a; map a 0 4 apart f 60 rw',
-                     'file f 64; cut f 63', 'file f 1; file g 1; task a; map a 0 1 common f 0 rw; '
+                     'file f 64; cut f 63', 'file f 64; task a; map a 0 1 apart f 63 rw; put a 0.0 = a 0.0; cut f 9',
+                     'file f 64; task a; map a 0 1 common f 63 rw; map a 1 1 zero rw; put a 1.0 = a 0.0; put a 0.0 = 2',
+                     'file f 1; file g 1; task a; map a 0 1 common f 0 rw; '
                      'map a 1 1 common g 0 rw; map a 2 1 zero rw; put a 2.0 = a 0.0; put a 0.0 = a 1.0; '
                      'put a 1.0 = a 2.0', 'file f 1; task a; map a 0 1 common f 0 rw; put a 0.0 = 2 a 0.0 + 1',
                      'file f 1; task a; map a 0 1 common f 0 rw; put a 0.0 = 0',

@@ -1,13 +1,17 @@
 """Wanted leaves and least copies: [9] and [10]."""
 
+import random
 import time
 import unittest
 
-from tests.model import Maker, fewest_copies, joinable_of, marked_number, sharing_script, store_of, wanted_of
-from twinleaves.copies import Copies, least_copies
+from tests.model import Maker, fewest_copies, joinable_of, knotted_script, marked_number, sharing_script, store_of, \
+    wanted_of
+from twinleaves.copies import Copies, least_copies, numbered
 from twinleaves.errors import BadScript, TooLarge
+from twinleaves.marking import marked_number as number_of_marks
 from twinleaves.reading import read_script
 from twinleaves.scripts import Script
+from twinleaves.stores import Store
 from twinleaves.sums import Sums
 from twinleaves.wanted import Story, wanted_leaves
 
@@ -100,6 +104,7 @@ class CopiesTest(unittest.TestCase):
         for behind, copies in (('put a 0.0 = 1; show a 0.1; show b 0.0', 1), ('put a 0.0 = 1; show b 0.0', 0),
                                ('put a 0.0 = 1; show a 0.1', 0), ('put a 0.0 = 1; show b 0.0; show a 0.0', 1),
                                ('show b 0.0; put a 0.0 = 1; show a 0.0', 0),
+                               ('file f 1; file f 2; put a 0.0 = 1; show b 0.0; show a 0.0', 1),
                                ('put b 0.0 = 1; show a 0.0; show b 0.1', 0),
                                ('put a 0.0 = 1; put b 0.0 = 1; show b 0.0; show a 0.0', 1)):
             found = self.judge(told(front + behind))
@@ -121,6 +126,17 @@ class CopiesTest(unittest.TestCase):
             joined += len(found.joins) > 0
         self.assertGreater(planned, 300)
         self.assertGreater(joined, 20)
+
+    def test_knotted_scripts(self):
+        # Seeds of scripts in which marks rest on puts that join, that are left over, or that take without a copy.
+        seeds = [3066, 7217, 7346, 7483, 7982, 9466, 23145, 23228, 33051, 362, 499, 2200, 4641, 807, 1861, 2485, 3472]
+        for seed in seeds + list(range(250)):
+            script = knotted_script(Script, seed)
+            if len(joinable_of(script)) > 10:
+                with self.assertRaises(TooLarge):
+                    least_copies(script)
+            else:
+                self.judge(script, 4)
 
     def test_other_scripts(self):
         for seed in range(400):
@@ -147,10 +163,33 @@ class CopiesTest(unittest.TestCase):
         self.assertIs(found.shows(script.part(0, 3) + [('end', 'd')] + script.part(3)), False)
 
     def test_marks_of_other_contents(self):
+        # These add nothing to the number, so that only their form matters.
         script = told(FRONT + 'put b 0.1 = 7; show a 0.0; show b 0.0')
         found = least_copies(script)
-        more = found.marks + [(((99, ()), ZERO), mark) for mark in (0,)]
-        self.assertIs(Copies(found.joins, found.plan, more).shows(script), True)
+        other, last = ((99, ()), ZERO), 2 * len(script) + 1
+        for pair, shows in (((other, 0), True), ((other, last), True), ((other, -1), False), ((other, last + 1), False),
+                            ((other, True), False), ((other, None), False), ((other, 0, 0), False), ([other, 0], False),
+                            ((list(other), 0), False), ((other[:1], 0), False), ((other + (ZERO,), 0), False),
+                            (((ZERO, ZERO), 1), False), (((ZERO, (99, (5,))), 1), False), (((ZERO, 5), 1), False)):
+            self.assertIs(Copies(found.joins, found.plan, found.marks + [pair]).shows(script), shows, pair)
+        twice = found.marks + [(other, 1), (other, 1)]
+        self.assertIs(Copies(found.joins, found.plan, twice).shows(script), False)
+
+    def test_numbers_of_marks(self):
+        dice = random.Random(1)
+        for seed in range(150):
+            script = (knotted_script if seed % 2 else sharing_script)(Script, seed)
+            wanted_there, brings, takes = told_store = store_of(script)
+            rows = sorted({contents for row in wanted_there for contents in row}
+                          | {contents for pair in takes.values() for contents in pair})
+            sums = Sums()
+            store = Store(script, sums)
+            for _ in range(40):
+                near = [dice.choice(list(brings) + list(takes) + [0]) for _ in rows]
+                marks = [(contents, min(max(2 * at + dice.randint(-1, 5), 0), 2 * len(script) + 1))
+                         for contents, at in zip(rows, near) if dice.random() < 0.7]
+                told_marks = {numbered(sums, contents): mark for contents, mark in marks}
+                self.assertEqual(number_of_marks(store, told_marks), marked_number(script, marks, told_store))
 
     def test_marks_against_the_model(self):
         count = 0
@@ -188,6 +227,19 @@ class CopiesTest(unittest.TestCase):
                 for call in (least_copies, Copies([], [], []).shows):
                     with self.assertRaises(TooLarge):
                         call(script)
+
+    def test_puts_into_zeros_bring_frames(self):
+        # However many they are, and though their contents were there before, they neither take nor join.
+        names = 'abcdefghijklmno'
+        steps = [('task', 'a'), ('map', 'a', 0, 1, ('zero',), 'rw')] + [('fork', 'a', name) for name in names[1:]]
+        steps += [('put', name, 0, 0, (('number', 1),)) for name in names] + [('show', name, 0, 0) for name in names]
+        script = Script(1, 2, steps)
+        self.assertEqual(self.judge(script), Copies([], [], []))
+        self.assertIs(Copies([20], [], []).shows(script), False)
+        # Nor do puts that change nothing, or leave zeros.
+        steps = steps[:31] + [('put', name, 0, 0, (('number', 1),)) for name in names]
+        steps += [('put', name, 0, 0, (('number', 0),)) for name in names] + [('show', name, 0, 0) for name in names]
+        self.assertEqual(self.judge(Script(1, 2, steps)), Copies([], [], []))
 
     def test_joinable_by_brought_contents(self):
         # The contents that a put into zeros brings can be joined, too.
