@@ -112,14 +112,14 @@ class Trials:
 
     def turn(self, places):
         """The places that stay of some, if each one is tried, from the last one to the first."""
-        fronts = self.places_ahead(places)
+        fronts = self.fronts_of(places)
         stay = []
         for at in reversed(range(len(places))):
             if not self.can_go(fronts[at], places[:at], places[at], stay):
                 stay = [places[at]] + stay
         return stay
 
-    def places_ahead(self, places):
+    def fronts_of(self, places):
         """For each place the standing in front of it, and the number of shows ahead."""
         standing = self.start()
         fronts = []

@@ -69,7 +69,7 @@ class Values:
 class Probe:
     """Remainders of the numbers of forms, for values without a plain pattern.
 
-    Unlike remainders come of unlike forms; equal ones leave it open, though seldom without a reason.
+    Unlike remainders come of unlike forms; equal ones leave it open.
     """
 
     def __init__(self):
