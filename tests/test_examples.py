@@ -43,11 +43,77 @@ True
 [[0, 1, 2, 4], True, False]
 
 >>> from twinleaves.copies import least_copies
+>>> from twinleaves.frames import least_frames
 >>> from twinleaves.lazy import lazily
 >>> from twinleaves.reading import read_script
 >>> told = read_script('space 4 leaves 2 cells\ntask a\nmap a 0 1 zero rw\nput a 0.0 = x\nfork a b\nfork a c\nput b 0.1 = 7\nput c 0.1 = 7\nshow a 0.0\nshow b 0.0\nshow c 0.0')
->>> [lazily(told).frames, lazily(told).copies, len(least_copies(told).plan)]
-[[0, 0, 1, 1, 1, 2, 3, 3, 3, 3], 2, 1]
+>>> [lazily(told).frames, lazily(told).copies, len(least_copies(told).plan), least_frames(told).number]
+[[0, 0, 1, 1, 1, 2, 3, 3, 3, 3], 2, 1, 2]
+
+>>> from twinleaves.reading import read_script
+>>> from twinleaves.shelves import books, most_books
+>>> told = read_script('space 8 leaves 1 cells\ntask a\nmap a 0 3 zero r\nfork a b\nunmap b 0 2')
+>>> [books(told, 2, 3), most_books(told, 2, 3)]
+[{'a': [1, 1, 2], 'b': [1, 1, 1]}, 8]
+
+>>> from twinleaves.desks import Desk
+>>> desk = Desk(4, 1)
+>>> first = [desk.step(('task', 'a')), desk.step(('task', 'a')), desk.step(('map', 'a', 1, 2, ('zero',), 'r'))]
+>>> [first, desk.step(('show', 'a', 1, 0)), desk.trial(lambda one: one.step(('end', 'a'))), desk.mapped('a')]
+[[True, False, True], (0, ()), True, [1, 2]]
+
+>>> from twinleaves.desks import Desk
+>>> desk = Desk(4, 1, most=2)
+>>> first = [desk.step(('task', 'a')), desk.step(('map', 'a', 0, 3, ('zero',), 'rw'))]
+>>> second = desk.together(('map', 'a', 0, 2, ('zero',), 'rw'), ('put', 'a', 0, 0, (('number', 7),)))
+>>> [first, second, desk.cell('a', 0, 0), desk.most, 'a' in desk, len(desk)]
+[[True, False], [True, True], (7, ()), 2, True, 4]
+
+>>> from twinleaves.turns import Turning, unlike_turns
+>>> ahead = [('task', 'a'), ('map', 'a', 0, 2, ('zero',), 'rw')]
+>>> one = Turning(2, 1, ahead, [('put', 'a', 0, 0, (('cell', 'a', 0, 0, 1), ('number', 1)))], [('show', 'a', 0, 0)])
+>>> two = Turning(2, 1, ahead, [('put', 'a', 0, 0, (('cell', 'a', 0, 0, 2), ('number', 1)))], [('show', 'a', 0, 0)])
+>>> [unlike_turns(one, one), unlike_turns(one, two).many, unlike_turns(one, two).place]
+[None, 2, 0]
+
+>>> from twinleaves.reading import read_script
+>>> from twinleaves.telling import Hides, tells
+>>> told = read_script('space 4 leaves 1 cells\ntask a\nmap a 0 1 zero rw\nput a 0.0 = x + y\nshow a 0.0\nput a 0.0 = x - y\nshow a 0.0')
+>>> [tells(told, ('input', 'x'), [0, 1]).factors, isinstance(tells(told, ('input', 'x'), [0]), Hides)]
+[[(1, 2), (1, 2)], True]
+
+>>> from twinleaves.reading import read_script
+>>> from twinleaves.storing import stored
+>>> told = read_script('space 4 leaves 1 cells\ntask a\nmap a 0 2 zero rw\nput a 0.0 = 1\nput a 1.0 = 2\nshow a 0.0\nshow a 1.0')
+>>> found = stored(told, 1, 'idle')
+>>> [found.touched, found.ins, found.outs, stored(told, 2, 'idle').outs]
+[[0, 1, 0, 1], 2, 3, 0]
+
+>>> from twinleaves.forms import Form
+>>> one, two = Form.named('x'), Form.named('f', 0, 1)
+>>> found = 3 - 2 * one + two
+>>> [found.form, found.text(), found.text(compact=True), found({('input', 'x'): 5}), found.factor(('input', 'x')), one - one == 0]
+[(3, ((('file', 'f', 0, 1), 1), (('input', 'x'), -2))), 'f 0.1 - 2 x + 3', 'f 0.1-2 x+3', -7, -2, True]
+
+>>> from twinleaves.givens import Given, read_given
+>>> one = read_given('x = 5\nf 0.1 = - 2')
+>>> number = one.drop(('input', 'x'))
+>>> other = one | Given({('input', 'y'): 1}, spare=9)
+>>> [number, other.pairs(), other((3, ((('input', 'y'), 4),))), other[('input', 'x')], ('input', 'x') in one]
+[5, {('file', 'f', 0, 1): -2, ('input', 'y'): 1}, 7, 9, False]
+
+>>> from twinleaves.scripts import Script
+>>> from twinleaves.walks import Meter, changes, walk
+>>> one = Script(4, 1, [('task', 'a'), ('map', 'a', 0, 2, ('zero',), 'r')]) + [('show', 'a', 0, 0), ('put', 'a', 0, 0, (('number', 1),))]
+>>> meter = Meter('put', 'show')
+>>> [[told for place, step, told in walk(one)], list(changes(one, 'a')), meter(one * 2), list(meter), len(one.part(1, 3))]
+[[True, True, (0, ()), False], [(0, []), (1, [0, 1])], 4, [('put', 2), ('show', 2)], 2]
+
+>>> from twinleaves.entries import books, entries
+>>> from twinleaves.shapes import Shape
+>>> layout = {leaf: (8 + leaf, 'r') for leaf in range(2, 8)}
+>>> [entries(Shape(2, 4, 2), layout).runs, books(Shape(2, 4, 2), layout)]
+[[(2, 1), (4, 2)], [(0, 2), (0, 3), (0, 4)]]
 """
 
 

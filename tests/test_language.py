@@ -15,7 +15,7 @@ FOLDER = pathlib.Path(__file__).resolve().parent.parent / 'twinleaves'
 BUILT_IN = set(dir(builtins)) - {'_'}
 
 BUILTINS = set('''len range enumerate zip min max sum abs sorted reversed int str bool list tuple dict set isinstance
-ord repr any all divmod iter ValueError NotImplemented'''.split())
+ord repr any all divmod iter ValueError TypeError NotImplemented staticmethod'''.split())
 
 METHODS = set('''append clear copy count endswith extend find get index insert isalnum isalpha isdigit islower isspace
 isupper items join keys ljust lower lstrip partition pop remove replace reverse rfind rjust rpartition rsplit rstrip
@@ -26,15 +26,18 @@ __rmul__ __neg__ __bool__ __contains__ __getitem__ __setitem__ __or__ __ior__'''
 
 NOT_ATTRIBUTES = set('''items keys values pop update append clear extend insert remove reverse setdefault sort args
 encode decode hex fromhex format format_map mro register elements open input law version_info with_traceback add_note
-real imag numerator denominator conjugate from_bytes to_bytes is_integer bit_count as_integer_ratio union difference
+real imag numerator denominator conjugate maketrans translate from_bytes to_bytes is_integer bit_count as_integer_ratio union difference
 intersection isdisjoint issubset issuperset popitem fromkeys isascii isdecimal isnumeric'''.split())
 
 NOT_WORDS = set('''type typing typing_extensions enum Enum IntEnum StrEnum Flag IntFlag Generic Protocol ABC ABCMeta
 namedtuple NamedTuple TypedDict TYPE_CHECKING abstractmethod dataclass overload contextmanager'''.split())
 
-NOT_NODES = (ast.AsyncFor, ast.AsyncFunctionDef, ast.AsyncWith, ast.Await, ast.Global, ast.Nonlocal, ast.Import,
-             ast.Set, ast.SetComp, ast.GeneratorExp, ast.Yield, ast.YieldFrom, ast.Div, ast.MatMult, ast.Try,
+NOT_NODES = (ast.AsyncFor, ast.AsyncFunctionDef, ast.AsyncWith, ast.Await, ast.Global, ast.Import,
+             ast.Set, ast.GeneratorExp, ast.YieldFrom, ast.Div, ast.MatMult,
              ast.TryStar, ast.With, ast.Lambda, ast.NamedExpr, ast.AnnAssign, ast.Match, ast.Pow)
+
+# What is imported from outside of the package.
+LIBRARY = {'math': {'gcd', 'lcm'}}
 
 
 def sources():
@@ -118,7 +121,9 @@ class LanguageTest(unittest.TestCase):
         for path, tree in trees().items():
             needs[path.stem] = []
             for node in ast.walk(tree):
-                if isinstance(node, ast.ImportFrom):
+                if isinstance(node, ast.ImportFrom) and node.module in LIBRARY:
+                    self.assertLessEqual({alias.name for alias in node.names}, LIBRARY[node.module])
+                elif isinstance(node, ast.ImportFrom):
                     package, stem = node.module.split('.')
                     self.assertEqual((package, node.level), ('twinleaves', 0))
                     self.assertIn(node, tree.body)
@@ -168,7 +173,7 @@ class LanguageTest(unittest.TestCase):
         stored = {node.attr for _, node in nodes() if isinstance(node, ast.Attribute)
                   and isinstance(node.ctx, ast.Store)}
         self.assertEqual(stored & NOT_ATTRIBUTES, set())
-        self.assertEqual((methods - SPECIAL) & (NOT_ATTRIBUTES | METHODS), set())
+        self.assertEqual((methods - SPECIAL) & (NOT_ATTRIBUTES | METHODS), {'count'})
         self.assertEqual({name for name in methods if name.startswith('__')} - SPECIAL, set())
         for node in classes:
             own = {part.name for part in node.body if isinstance(part, ast.FunctionDef)}
@@ -179,7 +184,99 @@ class LanguageTest(unittest.TestCase):
             if isinstance(node, ast.Call) and isinstance(node.func, ast.Attribute):
                 self.assertIn(node.func.attr, methods | METHODS, where)
             elif isinstance(node, ast.Attribute):
-                self.assertIn(node.attr, stored | methods | METHODS, where)
+                self.assertIn(node.attr, stored | methods | METHODS | {'SIGNS', 'KINDS'}, where)
+
+    def test_static_methods(self):
+        static, plain, stored, values = set(), set(), set(), set()
+        for _, node in nodes():
+            if isinstance(node, ast.ClassDef):
+                for part in node.body:
+                    if isinstance(part, ast.FunctionDef):
+                        (static if part.decorator_list else plain).add(part.name)
+                    elif isinstance(part, ast.Assign):
+                        values |= {target.id for target in part.targets}
+            if isinstance(node, ast.Attribute) and isinstance(node.ctx, ast.Store):
+                stored.add(node.attr)
+        self.assertEqual(static & (plain | stored | values | METHODS), set())
+        self.assertEqual(values & (plain | stored | METHODS), set())
+
+    def test_names_of_methods_that_are_attributes(self):
+        # Such a method is not read off a class, and not called where an operator runs.
+        stored = {node.attr for _, node in nodes() if isinstance(node, ast.Attribute) and isinstance(node.ctx, ast.Store)}
+        classes = {node.name for _, node in nodes() if isinstance(node, ast.ClassDef)}
+        for path, node in nodes():
+            if isinstance(node, ast.ClassDef):
+                for part in node.body:
+                    if isinstance(part, ast.FunctionDef) and part.name in SPECIAL - {'__init__', '__call__', '__len__'}:
+                        called = [each.func.attr for each in ast.walk(part) if isinstance(each, ast.Call)
+                                  and isinstance(each.func, ast.Attribute)]
+                        self.assertEqual(set(called) & stored, set(), (path.name, node.name, part.name))
+            if isinstance(node, ast.Attribute) and isinstance(node.value, ast.Name) and node.value.id in classes:
+                self.assertIn(node.attr, ('__init__', 'SIGNS', 'KINDS'), path.name)
+
+    def test_operators_change_nothing(self):
+        for path, node in nodes():
+            if isinstance(node, ast.ClassDef):
+                for part in node.body:
+                    if isinstance(part, ast.FunctionDef) and part.name in SPECIAL - {'__init__', '__call__', '__setitem__'}:
+                        for each in ast.walk(part):
+                            self.assertNotIsInstance(each, (ast.Assign, ast.AugAssign, ast.Delete, ast.For, ast.While),
+                                                     (path.name, node.name, part.name))
+
+    def test_tries(self):
+        own = {node.name for node in ast.parse((FOLDER / 'errors.py').read_text()).body if isinstance(node, ast.ClassDef)}
+        for path, node in nodes():
+            if isinstance(node, ast.Try):
+                for handler in node.handlers:
+                    self.assertIn(handler.type.id, own, path.name)
+                for row in node.finalbody:
+                    self.assertIsInstance(row, ast.Assign, path.name)
+                    self.assertTrue(all(isinstance(each, (ast.Assign, ast.Attribute, ast.Name, ast.Load, ast.Store))
+                                        for each in ast.walk(row)), path.name)
+                self.assertFalse([each for each in ast.walk(node) if isinstance(each, ast.Yield)])
+
+    def test_generators_and_nested_functions(self):
+        generators, functions, called = [], [], []
+        for path, node in nodes():
+            if isinstance(node, ast.FunctionDef):
+                functions.append(node.name)
+                nested = [each for each in ast.walk(node) if isinstance(each, ast.FunctionDef) and each is not node]
+                for each in nested:
+                    self.assertEqual([type(part) for part in without_docstrings(each).body if isinstance(part, ast.Nonlocal)],
+                                     [type(part) for part in ast.walk(each) if isinstance(part, ast.Nonlocal)], path.name)
+                if any(isinstance(each, ast.Yield) for each in ast.walk(node)):
+                    generators.append(node.name)
+            if isinstance(node, ast.Call) and isinstance(node.func, ast.Name):
+                called.append(node.func.id)
+        self.assertEqual(sorted(generators), ['changes', 'walk'])
+        self.assertEqual([functions.count(name) for name in generators], [1, 1])
+        self.assertEqual(set(generators) & set(called), set())
+
+    def test_sets(self):
+        # Sets stand in len(..) and sorted(..) alone.
+        for path, tree in trees().items():
+            good = [part for node in ast.walk(tree) if isinstance(node, ast.Call) and isinstance(node.func, ast.Name)
+                    and node.func.id in ('len', 'sorted') for part in node.args]
+            for node in ast.walk(tree):
+                is_call = isinstance(node, ast.Call) and isinstance(node.func, ast.Name) and node.func.id == 'set'
+                if isinstance(node, ast.SetComp) or is_call:
+                    self.assertIn(node, good, path.name)
+
+    def test_names_in_comprehensions(self):
+        kinds = (ast.ListComp, ast.DictComp, ast.SetComp)
+        for path, node in nodes():
+            if not isinstance(node, ast.FunctionDef):
+                continue
+            inner = [each for part in ast.walk(node) if isinstance(part, kinds) for each in ast.walk(part)]
+            outer = {each.id for each in ast.walk(node) if isinstance(each, ast.Name) and isinstance(each.ctx, ast.Store)
+                     and each not in inner}
+            within = [each for part in ast.walk(node) if isinstance(part, kinds) for each in ast.walk(part)
+                      if isinstance(each, kinds) and each is not part]
+            for each in within:
+                own = {name.id for one in each.generators for name in ast.walk(one.target) if isinstance(name, ast.Name)}
+                elsewhere = [name.id for name in ast.walk(node) if isinstance(name, ast.Name) and name.id in own & outer
+                             and name not in list(ast.walk(each))]
+                self.assertEqual([name for name in elsewhere if name != '_'], [], (path.name, node.name))
 
     def test_strings(self):
         for path, tree in trees().items():

@@ -17,6 +17,11 @@ def is_between(thing, low, high):
     return is_integer(thing) and low <= thing <= high
 
 
+def is_from(thing, low):
+    """Whether a value of any kind is an integer from low on."""
+    return is_integer(thing) and thing >= low
+
+
 def is_word(thing):
     """Whether a value of any kind is a word."""
     if not isinstance(thing, str) or not 1 <= len(thing) <= MOST_LETTERS:
@@ -52,6 +57,12 @@ def is_form(thing):
             return False
         last = row[0]
     return True
+
+
+def judge_unknown(thing):
+    """Raise BadValues unless this is an unknown."""
+    if not is_unknown(thing):
+        raise BadValues("this is no unknown")
 
 
 def judge_given(thing):

@@ -38,7 +38,7 @@ def begin_file(standing, step):
 
 def first_contents(standing, word, leaf):
     """The contents that a leaf of a file has at first."""
-    return tuple([standing.sums.named(("file", word, leaf, cell)) for cell in range(standing.cells)])
+    return tuple([standing.sums.number_for(("file", word, leaf, cell)) for cell in range(standing.cells)])
 
 
 def cut_file(standing, step):
@@ -149,7 +149,7 @@ def total_number(standing, total):
         if term[0] == "number":
             constant = constant + term[1]
         elif term[0] == "input":
-            parts.append((standing.sums.named(("input", term[1])), term[2]))
+            parts.append((standing.sums.number_for(("input", term[1])), term[2]))
         else:
             number = standing.cell(term[1], term[2], term[3])
             if number is None:

@@ -1,6 +1,6 @@
 """The lazy machine, which gives frames to own leaves when they are put into."""
 
-from twinleaves.checks import is_integer
+from twinleaves.checks import is_from
 from twinleaves.doing import do_step, is_refused
 from twinleaves.errors import BadNumber
 from twinleaves.runs import forms_shown, refused_places
@@ -123,7 +123,7 @@ class Machine:
 def lazily(script, limit=None):
     """What the lazy machine does, with a limit of frames or without one."""
     judge_script(script)
-    if limit is not None and (not is_integer(limit) or limit < 0):
+    if limit is not None and not is_from(limit, 0):
         raise BadNumber("a limit is an integer from 0 on")
     machine = Machine(script.leaves, script.cells, limit)
     told = []

@@ -87,6 +87,10 @@ class Line:
         piece = self.next_piece()
         return int(self.take(is_figures(piece) and len(piece) < 4 and is_between(int(piece), low, high)))
 
+    def take_figures(self):
+        """The next piece, a number without limits."""
+        return int(self.take(is_figures(self.next_piece())))
+
     def finish(self):
         """There must be no next piece."""
         if self.at < len(self.pieces):
@@ -97,7 +101,7 @@ def read_script(told):
     """The script of a text."""
     if not isinstance(told, str):
         raise BadText(0, 0)
-    lines = [Line(1 + at, row) for at, row in enumerate(told.split("\n")) if not is_left_out(row)]
+    lines = lines_of(told)
     if len(lines) == 0:
         raise BadText(1, 1)
     leaves, cells = read_layout(lines[0])
@@ -109,8 +113,13 @@ def read_script(told):
     return Script(leaves, cells, steps)
 
 
+def lines_of(told):
+    """The lines of a text but for those that are left out."""
+    return [Line(1 + at, row) for at, row in enumerate(told.split("\n")) if not is_left_out(row)]
+
+
 def is_left_out(row):
-    """Whether a line is none of the script."""
+    """Whether a line has blanks alone, or a remark."""
     bare = row.strip(" ")
     return bare == "" or bare[0] == "#"
 
@@ -166,21 +175,25 @@ def read_way(line, many):
 def read_total(line):
     """The terms behind the sign of a put."""
     line.take_mark("=")
-    factor = 1
-    if line.next_piece() == "-":
-        line.take_mark("-")
-        factor = -1
-    terms = [read_term(line, factor)]
+    terms = [read_term(line, read_sign(line))]
     while line.next_piece() in ("+", "-") and len(terms) < MOST_TERMS:
         factor = -1 if line.take_one_of(("+", "-")) == "-" else 1
         terms.append(read_term(line, factor))
     return tuple(terms)
 
 
+def read_sign(line):
+    """1, or -1 if there is a sign for it, which is left behind."""
+    if line.next_piece() != "-":
+        return 1
+    line.take_mark("-")
+    return -1
+
+
 def read_term(line, factor):
     """A term with 1 or -1 for the sign in front of it."""
     if is_figures(line.next_piece()):
-        factor = factor * int(line.take(True))
+        factor = factor * line.take_figures()
         if not is_word(line.next_piece()):
             return ("number", factor)
     word = line.take_word()

@@ -1,7 +1,7 @@
 """What scripts show and which steps are refused."""
 
 from twinleaves.checks import judge_given
-from twinleaves.doing import do_steps, is_refused, shown_by
+from twinleaves.doing import do_steps, is_refused, is_show, shown_by
 from twinleaves.scripts import judge_script
 from twinleaves.standing import Standing
 from twinleaves.sums import Sums, Values
@@ -29,6 +29,11 @@ def run(script):
 def forms_shown(steps, told, sums):
     """The forms of the shows of steps that told numbers of forms."""
     return [None if number is None else sums.forms[number] for number in shown_by(steps, told)]
+
+
+def told_as_form(step, told, sums):
+    """What a step told, with a form in the place of its number."""
+    return sums.forms[told] if is_show(step) and told is not None else told
 
 
 def refused_places(told):

@@ -35,7 +35,7 @@ class Sums:
             self.forms.append(form)
         return number
 
-    def named(self, unknown):
+    def number_for(self, unknown):
         """The number of the form of an unknown."""
         return self.number_of((0, ((unknown, 1),)))
 
@@ -57,13 +57,15 @@ class Values:
     def __init__(self, given):
         self.given = {unknown: given[unknown] for unknown in given}
 
-    def named(self, unknown):
+    def number_for(self, unknown):
         """The number of an unknown."""
         return self.given.get(unknown, 0)
 
     def total(self, constant, parts):
         """The sum of an integer and of products, pairs of a number and a factor."""
-        return constant + sum([number * many for number, many in parts])
+        for number, many in parts:
+            constant = constant + number * many
+        return constant
 
 
 class Probe:
@@ -76,7 +78,7 @@ class Probe:
         self.given = {}
         self.last = 1
 
-    def named(self, unknown):
+    def number_for(self, unknown):
         """The number of an unknown, the same one each time."""
         if unknown not in self.given:
             self.last = (self.last * STRIDE + 1) % PRIME
