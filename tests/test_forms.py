@@ -61,7 +61,7 @@ class FormTest(unittest.TestCase):
                 Form.of(wrong)
         for wrong in (('X',), ('',), (5,), (None,), ('abcdefghi',), (['x'],), ('f', 0), ('f', True, 0), ('f', 0, True),
                       ('f', -1, 0), ('f', 0, 1000), ('f', None, None), ('f', None, 0), ('f', '0', 0), ('F', 0, 0),
-                      (X,), ('f', 0, None), ('f', (0,), 0), ('f', 0.0, 0)):
+                      (X,), ('f', 0, None), ('f', (0,), 0), ('f', 0.0, 0), ('f', (), 0), ('f', 0, ())):
             with self.assertRaises(BadForm):
                 Form.named(*wrong)
 

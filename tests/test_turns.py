@@ -63,7 +63,7 @@ class TurningTest(unittest.TestCase):
         one = Turning(4, 1, *rows)
         rows[0].append(('end', 'a'))
         self.assertEqual(one, Turning(4, 1, (('task', 'a'),), (('end', 'a'),), (('task', 'b'),)))
-        for other in (Turning(5, 1, *rows), Turning(4, 1, *rows), Turning(4, 2, [('task', 'a')], *rows[1:]),
+        for other in (Turning(4, 1, *rows), Turning(5, 1, rows[0][:1], *rows[1:]), Turning(4, 2, rows[0][:1], *rows[1:]),
                       Turning(4, 1, [('task', 'a')], [], rows[2]), Turning(4, 1, [('task', 'a')], rows[1], []), None,
                       one.script(1)):
             self.assertNotEqual(one, other)
@@ -210,6 +210,48 @@ class UnlikeTurnsTest(unittest.TestCase):
                 other = Turning(2, 1, front, [('put', 'a', 0, 0, total)], [('show', 'a', 0, 0)])
                 self.judge(one, other, 2 if total == (('number', number),) else 1)
 
+    def test_unknowns_of_files_that_are_only_shown(self):
+        front = 'file f 3; task a; map a 0 3 common f 0 r; '
+        for ours, theirs, given in (('0.0', '1.0', True), ('0.0', '0.1', True), ('2.1', '0.1', True), ('2.1', '2.1', False)):
+            one, other = turning(front, '', 'show a ' + ours, 4, 2), turning(front, 'task b', 'show a ' + theirs, 4, 2)
+            found = self.judge(one, other, 0 if given else None)
+            self.assertTrue(found is None or len(found.given) == 1)
+            one = turning(front, f'show a {ours}', 'move a 0 1 to 3', 4, 2)
+            self.judge(one, turning(front, f'show a {theirs}', '', 4, 2), 1 if given else None)
+        moves = 'move a 0 1 to 9; move a 1 1 to 0; move a 2 1 to 1; move a 9 1 to 2'
+        one = turning(front, moves, 'show a 0.0', 12)
+        self.judge(one, turning(front + 'cut f 2', moves, 'show a 0.0', 12), 2)
+        self.judge(one, turning(front + 'cut f 2; cut f 3', moves, 'show a 0.0', 12), 2)
+        self.judge(one, turning(front, moves + '; task b', 'show a 0.0', 12), None)
+
+    def test_great_numbers_for_unknowns(self):
+        # Forms that would be alike if too small a number stood for an unknown.
+        front = [('task', 'a'), ('map', 'a', 0, 1, ('zero',), 'rw')]
+        y, x = ('input', 'a'), ('input', 'x')
+        for power in range(1, 70):
+            number = 2 ** power
+            for ours, theirs in (((('number', number),), (('number', -number), x + (1,))),
+                                 ((('number', number),), (x + (1,),)), ((y + (number,),), (y + (-number,), x + (1,))),
+                                 ((y + (number,), ('number', 1)), (x + (1,), ('number', 1)))):
+                one, other = [Turning(1, 1, front, [], [('put', 'a', 0, 0, total), ('show', 'a', 0, 0)])
+                              for total in (ours, theirs)]
+                self.judge(one, other, 0)
+
+    def test_numbers_that_grow(self):
+        # A number that is doubled while it is moved along, and an input that is only moved.
+        for many in range(1, 25):
+            front = [('task', 'a'), ('map', 'a', 0, many + 1, ('zero',), 'rw')]
+            pair = []
+            for term, factor in ((('number', 1), 2), (('input', 'x', 1), 1), (('input', 'a', 1), 2)):
+                body = [('put', 'a', at, 0, (('cell', 'a', at + 1, 0, factor),)) for at in range(many)]
+                body.append(('put', 'a', many, 0, (('number', 0),)))
+                pair.append(Turning(64, 1, front + [('put', 'a', many, 0, (term,))], body, [('show', 'a', 0, 0)]))
+            for one, other in ((pair[0], pair[1]), (pair[1], pair[2]), (pair[0], pair[2])):
+                found = unlike_turns(one, other)
+                self.assertEqual(found.many, many)
+                self.assertIs(found.shows(one, other), True)
+                self.assertEqual(found.place, gap_of(one, other, many, found.given))
+
     def test_drawn_turnings(self):
         counts = {}
         for seed in range(500):
@@ -236,6 +278,11 @@ class UnlikeTurnsTest(unittest.TestCase):
             maker = Maker(seed, 1 + seed % 3, 1 + seed % 2)
             pair = [Turning(maker.leaves, maker.cells, *rows) for rows in drawn_pair(maker)]
             self.assertGreaterEqual(turns_enough(*pair), bound_of(*pair))
+            if len(Lap(pair[0]).seen) == len(Lap(pair[1]).seen):
+                self.assertEqual(turns_enough(*pair), bound_of(*pair))
+        moves = 'move a 0 1 to 9; move a 1 1 to 0; move a 2 1 to 1; move a 9 1 to 2'
+        one = turning('file f 3; task a; map a 0 3 common f 0 r; fork a b; end b', moves, '', 12, 2)
+        self.assertEqual((turns_enough(one, one), bound_of(one, one)), (39, 39))
 
     def test_shows_beyond_the_bound(self):
         # Where a number is told, shows does not need all turns that could be needed.

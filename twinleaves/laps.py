@@ -1,7 +1,7 @@
 """Two turnings that are run side by side, turn by turn."""
 
 from twinleaves.alikes import first_gap
-from twinleaves.doing import do_steps, shown_by
+from twinleaves.doing import do_steps, is_show, shown_by
 from twinleaves.standing import OWN, Standing
 from twinleaves.sums import Probe, Values
 
@@ -15,12 +15,16 @@ class Runner:
         self.left = shown_by(turning.ahead, do_steps(self.standing, turning.ahead))
 
     def turn(self):
-        """Run the body once more; what it shows."""
-        return shown_by(self.turning.body, do_steps(self.standing, self.turning.body))
+        """Run the body once more."""
+        self.left = self.left + shown_by(self.turning.body, do_steps(self.standing, self.turning.body))
 
-    def finish(self):
-        """Run the steps behind, on a standing of their own; what they show."""
-        return shown_by(self.turning.behind, do_steps(self.standing.twin(), self.turning.behind))
+    def leave(self, many):
+        """Leave the first ones of the shows behind."""
+        self.left = self.left[many:]
+
+    def whole(self):
+        """The shows that are still to be compared, with those of the steps behind."""
+        return self.left + shown_by(self.turning.behind, do_steps(self.standing.twin(), self.turning.behind))
 
 
 class Pair:
@@ -33,19 +37,18 @@ class Pair:
 
     def turn(self):
         """Let both turn once, and leave behind what is equal."""
-        self.one.left = self.one.left + self.one.turn()
-        self.other.left = self.other.left + self.other.turn()
+        self.one.turn()
+        self.other.turn()
         equal = first_gap(self.one.left, self.other.left)
         if equal is None:
             equal = len(self.one.left)
+        self.one.leave(equal)
+        self.other.leave(equal)
         self.passed = self.passed + equal
-        self.one.left = self.one.left[equal:]
-        self.other.left = self.other.left[equal:]
 
     def gap(self):
         """The first show at which the scripts of so many turns differ, and what both show there, None if none does."""
-        ours = self.one.left + self.one.finish()
-        theirs = self.other.left + self.other.finish()
+        ours, theirs = self.one.whole(), self.other.whole()
         place = first_gap(ours, theirs)
         if place is None:
             return None
@@ -89,13 +92,13 @@ class Sizes:
 def sizes_within(one, other, most):
     """The Sizes of the scripts of two turnings of up to so many turns."""
     sizes = Sizes()
-    pair = Pair(one, other, sizes)
+    runners = [Runner(one, sizes), Runner(other, sizes)]
     for _ in range(most + 1):
-        for runner in (pair.one, pair.other):
-            told = runner.left + runner.finish()
-            runner.left = runner.turn()
-            for held in told:
+        for runner in runners:
+            for held in runner.whole():
                 sizes.use(held)
+            runner.leave(len(runner.left))
+            runner.turn()
     return sizes
 
 
@@ -137,29 +140,30 @@ def gap_for(one, other, many, given):
 def turns_enough(one, other):
     """A number of turns, so that two turnings are alike if their scripts are for all numbers up to it."""
     pair = Pair(one, other, Probe())
-    ahead = abs(len(pair.one.left) - len(pair.other.left))
+    ours, theirs = pair.one.standing, pair.other.standing
     shapes = {}
     cells = []
-    shape = shape_of(pair)
+    shape = (shape_of(ours), shape_of(theirs))
     while shape not in shapes:
         shapes[shape] = len(cells)
-        cells.append(cells_of(pair.one.standing) + cells_of(pair.other.standing))
-        shows = len(pair.one.turn())
-        pair.other.turn()
-        shape = shape_of(pair)
+        cells.append(cells_of(ours) + cells_of(theirs))
+        pair.turn()
+        shape = (shape_of(ours), shape_of(theirs))
     first = shapes[shape]
     number = max(len(cells), first + (len(cells) - first) * (1 + max(cells[first:])))
-    # Where one has shown more ahead of the turns, shows of unlike turns are held against one another.
-    return number + 1 + ahead // shows if ahead > 0 and shows > 0 else number
+    # Where one has more shows ahead of the turns, shows of unlike turns are compared.
+    more = abs(count_shows(one.ahead) - count_shows(other.ahead))
+    shows = count_shows(one.body)
+    return number + 1 + more // shows if more > 0 and shows > 0 else number
 
 
-def shape_of(pair):
-    """What decides which steps are done, of both standings."""
-    return (shape_of_one(pair.one.standing), shape_of_one(pair.other.standing))
+def count_shows(steps):
+    """How many shows are among steps."""
+    return len([step for step in steps if is_show(step)])
 
 
-def shape_of_one(standing):
-    """Files with their sizes, tasks, and mapped leaves with all but their contents."""
+def shape_of(standing):
+    """What decides which steps are done: files with their sizes, tasks, and mapped leaves with all but contents."""
     rows = [(word, len(standing.files[word])) for word in sorted(standing.files)]
     for name in sorted(standing.spaces):
         space = standing.spaces[name]

@@ -26,13 +26,13 @@ class StoredRun:
 
 
 class Room:
-    """Frames in memory, the one that goes out first at the front, and frames in the store."""
+    """Frames in memory, the one that goes out first at the front, and those that have ever gone out."""
 
     def __init__(self, most, rule):
         self.most = most
         self.rule = rule
         self.inside = []
-        self.outside = {}
+        self.gone = {}
         self.touched = []
         self.ins = 0
         self.outs = 0
@@ -46,17 +46,16 @@ class Room:
                 self.inside.append(frame)
             return
         if len(self.inside) == self.most:
-            self.outside[self.inside.pop(0)] = True
+            self.gone[self.inside.pop(0)] = True
             self.outs += 1
-        if frame in self.outside:
-            del self.outside[frame]
+        if frame in self.gone:
             self.ins += 1
         self.inside.append(frame)
 
     def leave(self, holders):
         """Drop the frames that no leaf holds any more."""
+        # None of these is ever touched again.
         self.inside = [frame for frame in self.inside if frame in holders]
-        self.outside = {frame: True for frame in self.outside if frame in holders}
 
 
 def frames_read(machine, step):
