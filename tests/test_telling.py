@@ -74,6 +74,7 @@ class TellingTest(unittest.TestCase):
         self.assertEqual(self.judge(script, Y, [1, 0], Tells).factors, [(1, 1), (-3, 2)])
         self.assertEqual(self.judge(script, X, [2], Tells).factors, [(-1, 9)])
         self.assertEqual(self.judge(showing('5'), X, []), Hides({X: 1}, {}))
+        self.assertEqual(self.judge(told(''), X, []), Hides({X: 1}, {}))
 
     def test_refused_shows(self):
         script = told(FRONT + 'put a 0.0 = x; show a 9.0; show a 0.0; show b 0.0')
