@@ -64,7 +64,8 @@ class Values:
     def total(self, constant, parts):
         """The sum of an integer and of products, pairs of a number and a factor."""
         for number, many in parts:
-            constant = constant + number * many
+            # Numbers can be long, and a product by 1 is a copy.
+            constant = constant + (number if many == 1 else number * many)
         return constant
 
 
