@@ -1,5 +1,6 @@
 """Forms as objects: [21]."""
 
+import itertools
 import random
 import unittest
 
@@ -64,6 +65,17 @@ class FormTest(unittest.TestCase):
                       (X,), ('f', 0, None), ('f', (0,), 0), ('f', 0.0, 0), ('f', (), 0), ('f', 0, ())):
             with self.assertRaises(BadForm):
                 Form.named(*wrong)
+        # What is given as a leaf and a cell is never taken for nothing.
+        for one, other in itertools.product([(), [], None, '', {}, 0, False, -1, 1000], repeat=2):
+            if (one, other) != (0, 0) or False in (type(one) is int, type(other) is int):
+                with self.assertRaises(BadForm):
+                    Form.named('x', one, other)
+        for wrong in ((), None, 0):
+            with self.assertRaises(BadForm):
+                Form.named('x', wrong)
+            with self.assertRaises(BadForm):
+                Form.named('x', 0, 1, wrong)
+        self.assertEqual(Form.named('f', leaf=0, cell=1), Form.named('f', 0, 1))
 
     def test_factors(self):
         one = Form((3, ((F, 1), (X, -2))))

@@ -23,11 +23,12 @@ class Form:
         """The Form of an integer."""
         return Form((n, ()))
 
-    # The ways to leave leaf and cell out are no values that an unknown can have there.
+    # A default value for leaf and cell could be given as one, and would then be taken for none.
     @staticmethod
-    def named(x, leaf=(), cell=()):
-        """The Form of an input, or of a cell of a file."""
-        unknown = ("input", x) if leaf == () and cell == () else ("file", x, leaf, cell)
+    def named(x, *place, **more):
+        """The Form of an input, or of a file's cell, with its leaf and cell."""
+        told = list(place) + [more[name] for name in ("leaf", "cell") if name in more]
+        unknown = ("input", x) if len(told) == 0 else ("file", x, *told)
         return Form((0, ((unknown, 1),)))
 
     def __eq__(self, other):
