@@ -2,7 +2,7 @@
 
 import unittest
 
-from twinleaves.checks import is_form, is_given, is_integer, is_unknown, is_word
+from twinleaves.checks import is_ascending, is_form, is_given, is_integer, is_unknown, is_word
 
 X, FILE = ('input', 'x'), ('file', 'f', 0, 3)
 
@@ -17,6 +17,10 @@ class ChecksTest(unittest.TestCase):
 
     def test_integers(self):
         self.judge(is_integer, (0, -1, 10 ** 50), (True, False, None, 1.0, '1', (1,)))
+
+    def test_ascending(self):
+        self.judge(lambda thing: is_ascending(thing, 9), ([], (), [0], (9,), [0, 1, 9], (3, 5)),
+                   (None, 5, {}, '', 'ab', {0: 1}, [0, 0], [1, 0], [10], [-1], [True], [0, True], [0.0], ['0'], [None], [[0]], [3, 5, 4]))
 
     def test_words(self):
         self.judge(is_word, ('a', 'z', 'abcdefgh'), ('', 'abcdefghi', 'A', 'a ', 'a1', '\u00e9', None, 5, b'a', ['a'],

@@ -1,4 +1,4 @@
-"""What integers, words and unknowns are, and dicts of values for unknowns."""
+"""What integers, ascending ones, words and unknowns are, and dicts of values for unknowns."""
 
 from twinleaves.errors import BadValues
 
@@ -20,6 +20,13 @@ def is_between(thing, low, high):
 def is_from(thing, low):
     """Whether a value of any kind is an integer from low on."""
     return is_integer(thing) and thing >= low
+
+
+def is_ascending(thing, most):
+    """Whether a value of any kind is an ascending list or tuple of integers from 0 to the most."""
+    if not isinstance(thing, (list, tuple)) or not all([is_between(number, 0, most) for number in thing]):
+        return False
+    return all([low < high for low, high in zip(thing, thing[1:])])
 
 
 def is_word(thing):
