@@ -15,14 +15,14 @@ FOLDER = pathlib.Path(__file__).resolve().parent.parent / 'twinleaves'
 BUILT_IN = set(dir(builtins)) - {'_'}
 
 BUILTINS = set('''len range enumerate zip min max sum abs sorted reversed int str bool list tuple dict set isinstance
-ord repr any all divmod iter ValueError TypeError NotImplemented staticmethod'''.split())
+ord repr any all divmod iter ValueError TypeError NotImplemented staticmethod property'''.split())
 
 METHODS = set('''append clear copy count endswith extend find get index insert isalnum isalpha isdigit islower isspace
 isupper items join keys ljust lower lstrip partition pop remove replace reverse rfind rjust rpartition rsplit rstrip
 setdefault split splitlines startswith strip update upper values zfill bit_length'''.split())
 
 SPECIAL = set('''__init__ __eq__ __repr__ __str__ __len__ __iter__ __call__ __add__ __radd__ __sub__ __rsub__ __mul__
-__rmul__ __neg__ __bool__ __contains__ __getitem__ __setitem__ __or__ __ior__'''.split())
+__rmul__ __neg__ __bool__ __contains__ __getitem__ __setitem__ __or__ __ror__ __ior__'''.split())
 
 NOT_ATTRIBUTES = set('''items keys values pop update append clear extend insert remove reverse setdefault sort args
 encode decode hex fromhex format format_map mro register elements open input law version_info with_traceback add_note
@@ -37,7 +37,7 @@ NOT_NODES = (ast.AsyncFor, ast.AsyncFunctionDef, ast.AsyncWith, ast.Await, ast.G
              ast.TryStar, ast.With, ast.Lambda, ast.NamedExpr, ast.AnnAssign, ast.Match, ast.Pow)
 
 # What is imported from outside of the package.
-LIBRARY = {'math': {'gcd', 'lcm'}}
+LIBRARY = {'math': {'gcd', 'lcm'}, 'heapq': {'heappop', 'heappush'}}
 
 
 def sources():
@@ -97,9 +97,10 @@ class LanguageTest(unittest.TestCase):
             where = (path.name, getattr(node, 'lineno', None))
             self.assertNotIsInstance(node, NOT_NODES, where)
             if isinstance(node, (ast.FunctionDef, ast.ClassDef)):
-                self.assertFalse([name for name in node.decorator_list
-                                  if getattr(name, 'id', '') not in ('property', 'staticmethod', 'classmethod')], where)
-                self.assertIsNotNone(ast.get_docstring(node) or node.name in SPECIAL or None, where)
+                told = [ast.unparse(name) for name in node.decorator_list]
+                setter = f'{node.name}.setter'
+                self.assertIn(told, [[], ['property'], ['staticmethod'], [setter]], where)
+                self.assertIsNotNone(ast.get_docstring(node) or node.name in SPECIAL or told == [setter] or None, where)
             if isinstance(node, ast.Constant):
                 self.assertNotIsInstance(node.value, (float, complex, bytes), where)
             if isinstance(node, ast.Compare):
@@ -184,21 +185,24 @@ class LanguageTest(unittest.TestCase):
             if isinstance(node, ast.Call) and isinstance(node.func, ast.Attribute):
                 self.assertIn(node.func.attr, methods | METHODS, where)
             elif isinstance(node, ast.Attribute):
-                self.assertIn(node.attr, stored | methods | METHODS | {'SIGNS', 'KINDS'}, where)
+                self.assertIn(node.attr, stored | methods | METHODS | {'SIGNS', 'KINDS', 'setter'}, where)
 
     def test_static_methods(self):
-        static, plain, stored, values = set(), set(), set(), set()
+        static, plain, stored, values, properties = set(), set(), set(), set(), set()
+        kinds = {'': plain, 'staticmethod': static}
         for _, node in nodes():
             if isinstance(node, ast.ClassDef):
                 for part in node.body:
                     if isinstance(part, ast.FunctionDef):
-                        (static if part.decorator_list else plain).add(part.name)
+                        kinds.get(''.join(ast.unparse(name) for name in part.decorator_list), properties).add(part.name)
                     elif isinstance(part, ast.Assign):
                         values |= {target.id for target in part.targets}
             if isinstance(node, ast.Attribute) and isinstance(node.ctx, ast.Store):
                 stored.add(node.attr)
-        self.assertEqual(static & (plain | stored | values | METHODS), set())
-        self.assertEqual(values & (plain | stored | METHODS), set())
+        self.assertEqual(static & (plain | stored | values | properties | METHODS), set())
+        self.assertEqual(values & (plain | stored | properties | METHODS), set())
+        # A property that has a setter may be stored; none is, in the package.
+        self.assertEqual((properties, properties & (plain | stored | METHODS)), ({'room', 'usual'}, set()))
 
     def test_names_of_methods_that_are_attributes(self):
         # Such a method is not read off a class, and not called where an operator runs.
@@ -218,7 +222,7 @@ class LanguageTest(unittest.TestCase):
         for path, node in nodes():
             if isinstance(node, ast.ClassDef):
                 for part in node.body:
-                    if isinstance(part, ast.FunctionDef) and part.name in SPECIAL - {'__init__', '__call__', '__setitem__'}:
+                    if isinstance(part, ast.FunctionDef) and part.name in SPECIAL - {'__init__', '__call__', '__setitem__', '__ior__'}:
                         for each in ast.walk(part):
                             self.assertNotIsInstance(each, (ast.Assign, ast.AugAssign, ast.Delete, ast.For, ast.While),
                                                      (path.name, node.name, part.name))
@@ -248,8 +252,9 @@ class LanguageTest(unittest.TestCase):
                     generators.append(node.name)
             if isinstance(node, ast.Call) and isinstance(node.func, ast.Name):
                 called.append(node.func.id)
-        self.assertEqual(sorted(generators), ['changes', 'walk'])
-        self.assertEqual([functions.count(name) for name in generators], [1, 1])
+        # The document has two generators of one name: all that are called walk yield.
+        self.assertEqual(sorted(generators), ['changes', 'laid_runs', 'walk', 'walk'])
+        self.assertEqual([functions.count(name) for name in generators], [generators.count(name) for name in generators])
         self.assertEqual(set(generators) & set(called), set())
 
     def test_sets(self):
