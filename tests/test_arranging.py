@@ -144,6 +144,10 @@ class ArrangingTest(unittest.TestCase):
         self.assertIs(good.shows(6, {0: 1, 1: 0, 2: 3}, told[2]), True)
         self.assertIs(good.shows(6, told[1], {0: 4, 1: 2, 2: 2, 4: 0}), False)
         self.assertIs(good.shows(6, told[1], {0: 4, 1: 2, 2: 1, 4: 0, 5: 'more'}), True)
+        # Frames that the memory does not have.
+        for frame in (2, -1, 10 ** 30):
+            for frames, shows in ((2, False), (3, frame == 2)):
+                self.assertIs(Arranged([(0, frame), (1, 0), (frame, 1)], 3, [[0, 1]]).shows(frames, {0: 1, 1: 0}, {0: 1, 1: 1}), shows)
         self.assertIs(Arranged([], 3, [[0, 1]]).shows(2, {0: 1, 1: 0}, {0: 1, 1: 1}), False)
         self.assertIs(Arranged([], 0, []).shows(2, {0: 0, 1: 1}, {0: 1, 1: 1}), True)
 
@@ -163,7 +167,7 @@ class ArrangingTest(unittest.TestCase):
             for goals in (None, [], (), 5, {5: 0}, {0: 5}, {-1: 0}, {0: -1}, {0: True}, {True: 0}, {0: None}, {None: 0}, {0: '1'}, {'0': 1}, {0: 1.0},
                           {0.0: 1}, {0: [1]}, {0: 1, 1: 1}, {0: 0, 1: 0}):
                 with self.assertRaises(BadMemory):
-                    call(5, goals, {frame: 1 for frame in range(5)})
+                    call(5, goals, {frame: 1 for frame in range(-1, 8)})
             for weights in (None, [], (), 5, {}, {1: 1}, {0: -1}, {0: True}, {0: None}, {0: '1'}, {0: 1.0}, {False: 1}, {0.0: 1}, {'0': 1}, {0: [1]}):
                 with self.assertRaises(BadMemory):
                     call(5, {0: 1}, weights)

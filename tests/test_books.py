@@ -217,6 +217,8 @@ class BookTest(unittest.TestCase):
             for call in (lambda: book | wrong, lambda: wrong | book, lambda: book - wrong, lambda: wrong - book):
                 with self.assertRaises(TypeError):
                     call()
+            with self.assertRaises(TypeError):
+                book |= wrong
         told = {3: 5}
         with self.assertRaises(TypeError):
             told |= book

@@ -111,6 +111,8 @@ class EditingTest(unittest.TestCase):
             self.assertIs(Telling(book, leaf).shows(one, other, 8), shows, (book, leaf))
             self.assertIs(Telling(book, leaf).shows(other, one, 8), shows)
             self.assertIs(Telling(book, leaf).shows(one, one, 8), False)
+        for leaf, shows in ((7, True), (8, False), (9, False), (6, False), (-1, False), (10 ** 30, False)):
+            self.assertIs(Telling({}, leaf).shows([('map', 7, 1, 0, 'r')], [], 8), shows)
         self.assertIs(Telling({2: (0, 'rw')}, 2).shows([('guard', 2, 1, 'r')], [('guard', 2, 1, 'rw')], 8), True)
         self.assertIs(Telling({2: (0, 'rw')}, 2).shows([], [('guard', 2, 1, 'rw')], 8), False)
         self.assertIs(Telling({2: (0, 'rw')}, 2).shows([], [('guard', 2, 1, 'r')], 8), True)

@@ -112,6 +112,11 @@ class EvictingTest(unittest.TestCase):
         self.assertIs(Least(4, [], [0, 1, 1, 0]).shows([1, 2, 1, 2], {1: 1, 2: 1}, 1), True)
         self.assertIs(Least(2, [(0, 2), (1, 3)], [0, 0, 0, 0]).shows([1, 2, 1, 2], {1: 1, 2: 1}, 2), True)
         self.assertIs(Least(1, [(0, 1)], [0, 0]).shows([1, 1], {1: 1}, 1), True)
+        self.assertIs(Least(3, [(0, 2)], [-1, 0, 0, 0]).shows([1, 2, 1, 2], {1: 1, 2: 1}, 2), False)
+        self.assertIs(Least(0, [(0, 1), (0, 1)], [1, 0]).shows([1, 1], {1: 1}, 2), False)
+        # The times of the touches themselves do not count, those of the places between do.
+        for times, shows in (([1, 0, 1, 0], False), ([0, 1, 0, 1], False), ([0, 1, 1, 0], True), ([9, 1, 1, 9], True), ([1, 1, 0, 0], False)):
+            self.assertIs(Least(4, [], times).shows([1, 2, 1, 2], {1: 1, 2: 1}, 1), shows, times)
 
     def test_as_evidence(self):
         one = Least(1, ((0, 1),), (0, 0))

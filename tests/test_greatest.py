@@ -101,6 +101,12 @@ class GreatestTest(unittest.TestCase):
             self.assertIs(good.shows(*told), False, told)
         self.assertIs(good.shows(2, 2, 5), True)
         two = [('put', 0, 0), ('fork', 0, None), ('put', 0, 0)]
+        for wrong in (('fork', 0, 0), ('fork', 1, None), ('fork', -1, None), ('put', 0, 0), ('put', 0, None), ('fork', 10 ** 30, None)):
+            self.assertIs(Busy(1, [two[0], wrong, two[2]]).shows(1, 1, 2), False, wrong)
+        for wrong in (('put', -1, 0), ('put', 2, 0), ('put', 0, 1), ('put', 0, -1), ('put', 0, None), ('put', 10 ** 30, 0)):
+            self.assertIs(Busy(1, [*two[:2], wrong]).shows(1, 1, 2), False, wrong)
+        for leaf, shows in ((0, True), (1, True), (2, False), (-1, False), (10 ** 30, False)):
+            self.assertIs(Busy(1, [('put', 0, leaf), ('fork', 0, None), ('put', 1, leaf)]).shows(1, 2, 2), shows, leaf)
         for steps, shows in ((two, True), ([('put', 0, 0), ('fork', 0, None), ('put', 1, 0)], True),
                              ([('fork', 0, None), ('put', 0, 0), ('put', 1, 0)], False), ([('put', 0, 0), ('put', 0, 0)], False)):
             self.assertIs(Busy(1, steps).shows(1, 1, 2), shows, steps)

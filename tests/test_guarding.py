@@ -108,6 +108,12 @@ class GuardingTest(unittest.TestCase):
         bent.edits.insert(0, ('guard', 0, 9, 'r'))
         bent.firsts[-1] += 1
         self.assertIs(bent.shows(9, book, wanted), False)
+        # Two guards for neighbours that one guard would do for.
+        pair = {(0, 0): 0, (0, 1): 1, (0, 2): 2, (1, 1): 0, (1, 2): 1, (2, 2): 0}
+        two = [('guard', 3, 1, 'rw'), ('guard', 5, 1, 'rw')]
+        told = (9, {3: (0, 'r'), 5: (0, 'r')}, {3: 'rw', 5: 'rw'})
+        self.assertIs(Guards(two, pair, [0, 1, 2]).shows(*told), False)
+        self.assertIs(Guards([('guard', 2, 6, 'rw')], {**pair, (0, 2): 1}, [0, 1, 1]).shows(*told), True)
         self.assertIs(good.shows(10, book, wanted), True)
         self.assertIs(good.shows(9, book, {**wanted, 2: 'rw'}), False)
         self.assertIs(good.shows(9, {**book, 4: (0, 'rw')}, wanted), False)

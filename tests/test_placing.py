@@ -118,6 +118,11 @@ class PlacingTest(unittest.TestCase):
                               ((2, 3, 4, 5, 6, 7, 8), False), ((4, 5, 6, 7, 9, 10, 8), False), ((8, 9, 10, 11, 2, 3, 2), False)):
             layout = {leaf: (frame, 'r') for leaf, frame in zip(wanted, frames)}
             self.assertIs(Placing(layout, good.numbers).shows(shape, wanted, free), shows, frames)
+        for frame in (4, 6, -1, 10 ** 30):
+            self.assertIs(Placing({0: (frame, 'r')}, [0, 0]).shows(shape, {0: 'r'}, [5, 7]), False)
+        self.assertIs(Placing({0: (7, 'r')}, [0, 0]).shows(shape, {0: 'r'}, [5, 7]), True)
+        self.assertIs(Placing({0: (7, 'r'), 2: (7, 'r')}, [0, 0]).shows(shape, {0: 'r', 2: 'r'}, [5, 7]), False)
+        self.assertIs(Placing({0: (7, 'r'), 2: (5, 'r')}, [0, 0]).shows(shape, {0: 'r', 2: 'r'}, [5, 7]), True)
         self.assertIs(good.shows(Shape(2, 3, 1), wanted, free), False)
         self.assertIs(good.shows(shape, wanted, []), False)
         self.assertIs(good.shows(shape, {**wanted, 6: 'r'}, free), False)

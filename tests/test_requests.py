@@ -142,6 +142,11 @@ class RequestsTest(unittest.TestCase):
         self.assertIs(Served([(), ((0, 1),), ((1, 1),), ((2, 1),)]).shows('first', 2, [1], 1), False)
         self.assertIs(Served([(), ((1, 1),)]).shows('first', 2, [1], 1), False)
         self.assertIs(Served([(), ((1, 1),)]).shows('last', 2, [1], 1), True)
+        # Places that no rule could give, with all that follows.
+        for told, standings in ((('first', 1, [1], 1), [(), ((0, 1),), ((-1, 1),)]), (('first', 1, [1], 1), [(), ((0, 1),), ((1, 1),)]),
+                                (('first', 3, [2], 2), [(), ((0, 2),), ((1, 2),)]), (('first', 4, [2], 2), [(), ((0, 2),), ((1, 1),)])):
+            self.assertIs(Served(standings).shows(*told), False, standings)
+            self.assertIs(Served(standings[:2]).shows(*told), True)
 
     def test_bent_refused(self):
         good = self.judge('first', 4, [1, 2], 4)
@@ -160,6 +165,12 @@ class RequestsTest(unittest.TestCase):
             self.assertIs(good.shows(*other), False, other)
         self.assertIs(Refused([('ask', 1), ('ask', 1), ('ask', 1)]).shows('first', 1, [1], 3), False)
         self.assertIs(Refused([('ask', 1), ('ask', 1)]).shows('first', 1, [1], 1), False)
+        self.assertIs(Refused([('ask', 1)] * 4).shows('first', 1, [1], 4), False)
+        self.assertIs(Refused([('ask', 1)] * 5).shows('first', 4, [1], 5), True)
+        # As many steps as are needed, but some of them are none.
+        for steps in ([('ask', 2), ('give', 0), ('ask', 2), ('ask', 2), ('ask', 1)], [('give', 9), ('give', 9), ('ask', 2), ('ask', 2), ('ask', 1)],
+                      [('give', 0), ('ask', 1), ('ask', 1), ('ask', 1), ('ask', 1)], [('ask', 1)] * 4 + [('ask', 2)], [('ask', 1)] * 4 + [('give', 0)]):
+            self.assertIs(Refused(steps).shows('first', 4, [1], 5), False, steps)
 
     def test_as_evidence(self):
         self.assertEqual(Served(((),)), Served([()]))
@@ -168,20 +179,24 @@ class RequestsTest(unittest.TestCase):
         self.assertNotEqual(Served([]), Refused([]))
         self.assertNotEqual(Refused([]), Served([]))
         self.assertNotEqual(Served([()]), Served([]))
+        self.assertNotEqual(Refused([('ask', 1)]), Refused([('ask', 2)]))
         self.assertFalse(issubclass(Refused, LeafError))
 
     def test_wrong_arguments(self):
         for call in (judge_requests, Served([()]).shows, Refused([]).shows):
             for wrong in (None, 5, '', 'First', 'best', ['first'], ('first',), True, 'oldest'):
-                with self.assertRaises(BadMemory):
-                    call(wrong, None, None, None)
+                for told in ((4, [1], 1), (None, None, None)):
+                    with self.assertRaises(BadMemory):
+                        call(wrong, *told)
             for wrong in (0, 9, -1, True, None, '4', 4.0, [4], 10 ** 30):
-                with self.assertRaises(BadMemory):
-                    call('first', wrong, None, None)
+                for told in (([1], 1), (None, None)):
+                    with self.assertRaises(BadMemory):
+                        call('first', wrong, *told)
             for wrong in ([], (), None, 5, {1: 2}, {}, [0], [3], [8], [2, 1], [1, 1], [1, 2, 2], [True], [True, 2], ['1'], [1.0], [None], '1',
                           [1, 2, 4, 8], (4, 2), [1, 3], [-1, 1], [[1]]):
-                with self.assertRaises(BadMemory):
-                    call('tight', 8, wrong, None)
+                for most in (1, None):
+                    with self.assertRaises(BadMemory):
+                        call('tight', 8, wrong, most)
             for wrong in (0, 9, -1, True, None, '4', 4.0, [4], 10 ** 30):
                 with self.assertRaises(BadNumber):
                     call('last', 8, (1, 2), wrong)

@@ -179,6 +179,20 @@ class StrokesTest(unittest.TestCase):
         self.assertIs(good.shows(edits[:3], 9), False)
         self.assertIs(Strokes([], []).shows([], 8), True)
 
+    def test_other_edits_that_come_to_the_same(self):
+        one, numbers = ('map', 0, 2, 0, 'r'), {(0, 0): 0, (0, 1): 1, (1, 1): 0}
+        twice = [one, ('map', 4, 2, 0, 'r')]
+        for edits, shows in ((twice, True), (twice[::-1], True), ([one, ('share', 0, 2, 4)], False), ([twice[1], ('share', 4, 2, 0)], False)):
+            self.assertEqual(normal_form(edits, 8), normal_form(twice, 8))
+            self.assertIs(Strokes(edits, [numbers, numbers]).shows(twice, 8), shows)
+        for change, edit, shows in ((('unmap', 7, 1), ('unmap', 7, 1), True), (('unmap', 7, 1), ('unmap', 7, 2), False),
+                                    (('unmap', 0, 1), ('unmap', -1, 2), False), (('map', 7, 1, 5, 'r'), ('map', 7, 2, 5, 'r'), False),
+                                    (('map', 0, 8, 0, 'r'), ('map', 0, 9, 0, 'r'), False), (('map', 0, 1, 0, 'r'), ('map', -1, 2, -1, 'r'), False),
+                                    (('unmap', 0, 8), ('unmap', 0, 10 ** 30), False)):
+            self.assertIs(Strokes([edit], [numbers]).shows([change], 8), shows, edit)
+        # A guard beside a map that has the other right.
+        self.assertIs(Strokes([('map', 0, 2, 0, 'rw'), ('guard', 0, 2, 'r')], [{**numbers, (0, 1): 2}]).shows([one], 8), False)
+
     def holds(self, table, row):
         """Whether a table is bounded as the document says."""
         for low, high in table:

@@ -26,7 +26,7 @@ class Arranged:
         if sorted([turned(ring) for ring in self.rings]) != sorted(rings):
             return False
         weight = weight_moved(frames, goals, weights, self.moves)
-        return weight is not None and weight == self.weight and weight == least_weight(goals, weights, rings)
+        return weight == self.weight and weight == least_weight(goals, weights, rings)
 
 
 def turned(ring):

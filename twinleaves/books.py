@@ -26,7 +26,6 @@ class Book:
     def of(leaves, *runs, right="r"):
         """The Book of runs, triples of a first leaf, a number and a frame, later ones over earlier ones."""
         judge_leaves(leaves)
-        judge_right(right)
         if not all([is_run_of_map(run, right, leaves) for run in runs]):
             raise BadBook("this is no run of leaves that get frames")
         return book_of_maps(leaves, [("map", *run, right) for run in runs], right)
@@ -222,7 +221,7 @@ def book_of_maps(leaves, maps, right):
 
 def is_run_of_map(thing, right, leaves):
     """Whether a value of any kind is a triple of a first leaf, a number and a frame, as of a map."""
-    return isinstance(thing, tuple) and len(thing) == 3 and is_edit(("map", *thing, right), leaves)
+    return isinstance(thing, tuple) and is_edit(("map", *thing, right), leaves)
 
 
 def pieces_of(told):

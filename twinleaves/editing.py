@@ -1,8 +1,8 @@
 """Whether two rows of edits give the same for all books, and which leaves a row loses."""
 
 from twinleaves.checks import is_between
-from twinleaves.edits import (NONE, entry_behind, form_behind, is_book, judge_edits, judge_leaves, judge_row, part_of,
-                              stretches)
+from twinleaves.edits import (NONE, entry_behind, form_behind, is_book, judge_edits, judge_leaves, judge_row, stretches,
+                              what_at)
 from twinleaves.evidence import new_dict
 
 
@@ -31,11 +31,6 @@ def judge_rows(one, other, leaves):
     judge_leaves(leaves)
     judge_edits(one, leaves)
     judge_edits(other, leaves)
-
-
-def what_at(form, leaf):
-    """What stands at a leaf, of a normal form."""
-    return part_of(form, leaf, leaf + 1)[0][1]
 
 
 def telling(one, other, leaves):

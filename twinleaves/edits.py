@@ -118,8 +118,12 @@ def part_of(form, low, high):
     """The stretches of a normal form from a leaf to ahead of another one."""
     if low == high:
         return []
-    at_low = [what for at, what in form if at <= low][-1]
-    return [(low, at_low)] + [(at, what) for at, what in form if low < at < high]
+    return [(low, what_at(form, low))] + [(at, what) for at, what in form if low < at < high]
+
+
+def what_at(form, leaf):
+    """What stands at a leaf, of a normal form."""
+    return [what for at, what in form if at <= leaf][-1]
 
 
 def laid(form, rows, end, leaves):

@@ -92,7 +92,8 @@ def painted_runs(table, firsts, there):
     runs = []
     high = len(there)
     while high > 0:
-        if there[high - 1] and firsts[high] == firsts[high - 1]:
+        if there[high - 1]:
+            # A leaf that has its right already makes no difference.
             high = high - 1
             continue
         low = [at for at in range(high) if firsts[at] + table[(at, high)] == firsts[high]][0]

@@ -3,7 +3,7 @@
 from twinleaves.checks import is_ascending, is_between
 from twinleaves.errors import BadLayout
 from twinleaves.evidence import new_dict, new_list
-from twinleaves.layouts import MOST_FRAME, is_layout, widest_runs
+from twinleaves.layouts import MOST_FRAME, widest_runs
 from twinleaves.scripts import RIGHTS
 from twinleaves.shapes import judge_shape
 
@@ -23,7 +23,7 @@ class Placing:
         judge_places(shape, wanted, free)
         if self.numbers != numbers_of(wanted_runs(shape, wanted), full_runs(shape, free)):
             return False
-        if not is_layout(shape, self.layout) or not is_placed(self.layout, wanted, free):
+        if not is_placed(self.layout, wanted, free):
             return False
         runs = list(widest_runs(shape, self.layout).values())
         return len(set(runs)) == len(wanted) - sum(self.numbers) * (shape.fan() - 1)

@@ -31,7 +31,7 @@ class Served:
             if not is_standing(standing, frames, sizes, most):
                 return False
             after = [standing_after(rule, frames, standing, step) for step in steps_from(standing, sizes, most)]
-            if not all([next_one is not None and next_one in told for next_one in after]):
+            if not all([next_one in told for next_one in after]):
                 return False
         return True
 
@@ -57,8 +57,9 @@ class Refused:
             return False
         if standing_after(rule, frames, standing, self.steps[-1]) is not None:
             return False
+        # These steps lead to a refused request, so there are fewest ones that do.
         _, least = reached(rule, frames, sizes, most)
-        return least is not None and len(self.steps) == len(least)
+        return len(self.steps) == len(least)
 
 
 def judge_requests_told(rule, frames, sizes, most):
