@@ -36,7 +36,8 @@ class Book:
         judge_leaves(leaves)
         if not isinstance(text, str):
             raise BadText(0, 0)
-        return book_of_maps(leaves, [map_in(piece, column, leaves) for piece, column in pieces_of(text)], RIGHTS[0])
+        maps = [map_in(piece, column, leaves) for piece, column in pieces_between(text)]
+        return book_of_maps(leaves, maps, RIGHTS[0])
 
     @staticmethod
     def is_entry(thing):
@@ -224,7 +225,7 @@ def is_run_of_map(thing, right, leaves):
     return isinstance(thing, tuple) and is_edit(("map", *thing, right), leaves)
 
 
-def pieces_of(told):
+def pieces_between(told):
     """The pieces of a text between blanks, each with its column."""
     found = []
     column = 1

@@ -29,7 +29,7 @@ class Guards:
             return False
         if rights_behind(book, self.edits) != wanted:
             return False
-        marks, there = marks_of(book, wanted)
+        marks, there = rights_wanted(book, wanted)
         if not is_bounded(self.table, marks) or len(self.firsts) != len(marks) + 1:
             return False
         bounds = [firsts_bound(self.table, self.firsts, there, high) for high in range(len(self.firsts))]
@@ -58,7 +58,7 @@ def rights_behind(book, edits):
     return rights
 
 
-def marks_of(book, wanted):
+def rights_wanted(book, wanted):
     """For the leaves in ascending order the rights that are wanted, and whether they are there already."""
     marks = [wanted[leaf] for leaf in sorted(book)]
     return marks, [book[leaf][1] == wanted[leaf] for leaf in sorted(book)]
@@ -75,7 +75,7 @@ def firsts_bound(table, firsts, there, high):
 def fewest_guards(leaves, book, wanted):
     """A Guards for a book and the rights that are wanted."""
     judge_guarded(leaves, book, wanted)
-    marks, there = marks_of(book, wanted)
+    marks, there = rights_wanted(book, wanted)
     table, goes = least_strokes(marks)
     firsts = []
     for high in range(len(marks) + 1):

@@ -13,7 +13,7 @@ def gaps_of(touches):
     return sorted(gaps)
 
 
-class Line:
+class Track:
     """Units that go from the first place to behind the last one; a gap carries one, from behind its first touch.
 
     Each unit is a frame beside that of the leaf that is touched. Nodes lie in front of places; a height of a node is
@@ -89,9 +89,9 @@ class Line:
 
 def best_kept(many, gaps, worths, frames):
     """The gaps that are kept in so many frames, and for each place a time that rules out keeping more."""
-    line = Line(many, gaps, worths)
-    # With one unit more than gaps, all are kept, and one goes along the whole line.
+    track = Track(many, gaps, worths)
+    # With one unit more than gaps, all are kept, and one goes along the whole track.
     for _ in range(min(frames - 1, len(gaps) + 1)):
-        line.send()
-    times = [high - low for high, low in zip(line.heights, line.heights[1:])]
-    return [gap for gap in gaps if line.kept[gap]], times
+        track.send()
+    times = [high - low for high, low in zip(track.heights, track.heights[1:])]
+    return [gap for gap in gaps if track.kept[gap]], times
